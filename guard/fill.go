@@ -5,23 +5,16 @@ import (
 	"strings"
 
 	"farandole/api"
+	"farandole/value"
 	"farandole/zone"
 )
-
-// number returns the number of a value: 0, if it is not known.
-func number(v api.Value) int {
-	if v.Kind == api.SortText {
-		return len(v.S)
-	}
-	return v.N
-}
 
 // numberOf returns the number of a variable, or 0 for the variable -1.
 func numberOf(known []api.Value, x int) int {
 	if x < 0 {
 		return 0
 	}
-	return number(known[x])
+	return value.Number(known[x])
 }
 
 func isKnown(known []api.Value, x int) bool { return x < 0 || known[x].Kind != 0 }
@@ -35,7 +28,7 @@ func with(d api.Decl, values, known []api.Value) []api.Value {
 
 // fulfil reports whether values fulfil the guard of a declaration, given what is known.
 func fulfil(d api.Decl, values, known []api.Value) bool {
-	if !fitAll(d.Fields, values) {
+	if !value.FitsAll(d.Fields, values) {
 		return false
 	}
 	all := with(d, values, known)

@@ -5,6 +5,7 @@ import (
 
 	"farandole/api"
 	"farandole/syntax"
+	"farandole/value"
 )
 
 // The limits of guards.
@@ -50,7 +51,7 @@ func areFields(l []api.Field) bool {
 	}
 	ahead := map[string]bool{}
 	for _, f := range l {
-		if !isWord(f.Name) || ahead[f.Name] || !isSort(f.Sort) {
+		if !isWord(f.Name) || ahead[f.Name] || !value.ValidSort(f.Sort) {
 			return false
 		}
 		ahead[f.Name] = true
@@ -60,16 +61,6 @@ func areFields(l []api.Field) bool {
 
 // isWord reports whether a string is a word: a path of one word.
 func isWord(s string) bool { return syntax.IsPath(s) && !strings.Contains(s, ".") }
-
-func isSort(s api.Sort) bool {
-	switch s.Kind {
-	case api.SortInt:
-		return -api.MaxInt <= s.Lo && s.Lo <= s.Hi && s.Hi <= api.MaxInt
-	case api.SortText:
-		return 0 <= s.Lo && s.Lo <= s.Hi && s.Hi <= api.MaxText
-	}
-	return false
-}
 
 // isGuard reports whether a guard is one over variables with these sorts.
 func isGuard(g api.Guard, sorts []api.Sort) bool {
@@ -97,44 +88,11 @@ func isTooFar(d api.Diff) bool { return d.C < -maxC || d.C > maxC }
 func areKnown(decls []api.Decl, known []api.Value) bool {
 	for _, d := range decls {
 		for _, f := range d.Fields {
-			if len(known) == 0 || known[0] != (api.Value{}) && !fits(f.Sort, known[0]) {
+			if len(known) == 0 || known[0] != (api.Value{}) && !value.Fits(f.Sort, known[0]) {
 				return false
 			}
 			known = known[1:]
 		}
 	}
 	return len(known) == 0
-}
-
-// fits reports whether a value fits a sort.
-func fits(s api.Sort, v api.Value) bool {
-	if v.Kind != s.Kind || number(v) < s.Lo || number(v) > s.Hi {
-		return false
-	}
-	if s.Kind == api.SortInt {
-		return v.S == ""
-	}
-	return v.N == 0 && isPrintable(v.S)
-}
-
-func isPrintable(s string) bool {
-	for i := range len(s) {
-		if s[i] < ' ' || s[i] > '~' {
-			return false
-		}
-	}
-	return true
-}
-
-// fitAll reports whether values fit the sorts of fields.
-func fitAll(l []api.Field, values []api.Value) bool {
-	if len(values) != len(l) {
-		return false
-	}
-	for i, f := range l {
-		if !fits(f.Sort, values[i]) {
-			return false
-		}
-	}
-	return true
 }
